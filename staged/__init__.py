@@ -1,0 +1,1 @@
+"""Staged: programs that run in two stages."""
