@@ -22,7 +22,8 @@ def is_name(value):
 def inner_nodes(node):
     """Return the tests and expressions right within an expression or a test, in the order of the text."""
     if node[0] == "call":
-        return node[3]
+        # The calls of plain expressions have no move, but their late expressions stand last, too.
+        return node[-1]
     if node[0] in WORDS_OF_PARTS:
         return node[1:]
     return ()
@@ -58,6 +59,19 @@ def moved(early, move):
     return max(early + move[1], 0)
 
 
+def is_early_step(move):
+    """Tell whether a call with this move makes an early step."""
+    return move[0] == "move" and move[1] != 0
+
+
+def branch_taken(expression, early):
+    """Return the branch that an if with a test of the early number takes."""
+    _, test, one, other = expression
+    if early_test_holds(test, early):
+        return one
+    return other
+
+
 def _is_move(value):
     """Tell whether a value is a move."""
     # A pattern takes lists, too, so each match here asks for a tuple first.
@@ -71,13 +85,14 @@ def _is_move(value):
     return False
 
 
-def _is_callable(name, handed, arities):
-    """Tell whether a call may have this name and hand on these; arities is None where any name will do."""
-    if not is_name(name) or not isinstance(handed, tuple):
-        return False
-    if arities is None:
-        return len(handed) <= MOST_LATES
-    return arities.get(name) == len(handed)
+def is_callable(name, handed, arities):
+    """Tell whether a call may have this name and hand on these."""
+    return isinstance(name, str) and isinstance(handed, tuple) and arities.get(name) == len(handed)
+
+
+def _is_callable_anywhere(name, handed):
+    """Tell whether a call of some program may have this name and hand on these."""
+    return is_name(name) and isinstance(handed, tuple) and len(handed) <= MOST_LATES
 
 
 def _is_test_node(value):
@@ -94,30 +109,40 @@ def _is_test_node(value):
     return False
 
 
-def _is_expression_node(value, lates, arities):
-    """Tell whether a value is an expression, whatever its parts are."""
+def is_shared_node(value, lates, most):
+    """Tell whether a value is such an expression as programs and plain programs have both, whatever its parts are."""
     if not isinstance(value, tuple):
         return False
     match value:
         case ("number", number):
-            return is_integer(number, 0, MOST_NUMBER)
-        case ("early",):
-            return True
+            return is_integer(number, 0, most)
         case ("late", number):
             return is_integer(number, 0, lates - 1)
         case (word, _, _) if word in OPERATIONS:
             return True
         case ("if", _, _, _):
             return True
-        case ("call", name, move, handed):
-            return _is_callable(name, handed, arities) and _is_move(move)
     return False
 
 
-def _count_nodes(value, lates, arities, most):
+def _is_expression_node(value, lates, arities):
+    """Tell whether a value is an expression, whatever its parts are; arities is None where calls may have any name."""
+    if not isinstance(value, tuple):
+        return False
+    match value:
+        case ("early",):
+            return True
+        case ("call", name, move, handed) if arities is None:
+            return _is_callable_anywhere(name, handed) and _is_move(move)
+        case ("call", name, move, handed):
+            return is_callable(name, handed, arities) and _is_move(move)
+    return is_shared_node(value, lates, MOST_NUMBER)
+
+
+def count_nodes(value, fits, most):
     """Return the number of nodes of an expression, 0 for a value that is none or has more than most.
 
-    The test of a less (that it is not of two early ones) is left to _has_early_less.
+    fits(node, as_test) tells whether a node is an expression, or a test, whatever its parts are.
     """
     many = 0
     waiting = [(value, False, 1)]
@@ -125,13 +150,22 @@ def _count_nodes(value, lates, arities, most):
         node, as_test, depth = waiting.pop()
         many += 1
         # Tuples may share their parts, so that a small value can have more nodes than could ever be walked.
-        if depth > MOST_DEPTH or (most is not None and many > most):
-            return 0
-        if not (_is_test_node(node) if as_test else _is_expression_node(node, lates, arities)):
+        if depth > MOST_DEPTH or (most is not None and many > most) or not fits(node, as_test):
             return 0
         for at, part in enumerate(inner_nodes(node)):
             waiting.append((part, node[0] == "if" and at == 0, depth + 1))
     return many
+
+
+def _count_program_nodes(value, lates, arities, most):
+    """Return the number of nodes of an expression of a program, 0 for a value that is none or has more than most.
+
+    The test of a less (that it is not of two early ones) is left to _has_early_less.
+    """
+    def fits(node, as_test):
+        return _is_test_node(node) if as_test else _is_expression_node(node, lates, arities)
+
+    return count_nodes(value, fits, most)
 
 
 def _has_early_less(expression):
@@ -140,20 +174,23 @@ def _has_early_less(expression):
     return any(has_no_late_part(one) and has_no_late_part(other) for _, one, other in tests)
 
 
-def _is_head(value):
+def _is_head(value, is_title):
     """Tell whether a value is a function, whatever its body is."""
     if not isinstance(value, tuple) or len(value) != 3:
         return False
-    return is_name(value[0]) and is_integer(value[1], 0, MOST_LATES)
+    return is_title(value[0]) and is_integer(value[1], 0, MOST_LATES)
 
 
-def _find_arities(value):
-    """Return a dict from names of functions to their numbers of late ones, None if no program has these functions."""
-    if not isinstance(value, tuple) or not 1 <= len(value) <= MOST_FUNCTIONS:
+def find_arities(value, most, is_title):
+    """Return a dict from the names of functions to their numbers of late ones.
+
+    None if the value is no tuple of 1 to most functions with names that are titles and unlike.
+    """
+    if not isinstance(value, tuple) or not 1 <= len(value) <= most:
         return None
     arities = {}
     for function in value:
-        if not _is_head(function) or function[0] in arities:
+        if not _is_head(function, is_title) or function[0] in arities:
             return None
         arities[function[0]] = function[1]
     return arities
@@ -161,12 +198,12 @@ def _find_arities(value):
 
 def is_program(value):
     """Tell whether a value is a program."""
-    arities = _find_arities(value)
+    arities = find_arities(value, MOST_FUNCTIONS, is_name)
     if arities is None:
         return False
     left = MOST_NODES
     for _, lates, body in value:
-        many = _count_nodes(body, lates, arities, left)
+        many = _count_program_nodes(body, lates, arities, left)
         if many == 0 or _has_early_less(body):
             return False
         left -= many
@@ -208,6 +245,6 @@ def calls(program, name):
 
 def is_early(expression):
     """Tell whether an expression of any program is without a late number and a call."""
-    if _count_nodes(expression, MOST_LATES, None, None) == 0 or _has_early_less(expression):
+    if _count_program_nodes(expression, MOST_LATES, None, None) == 0 or _has_early_less(expression):
         raise BadExpression("not an expression of a program")
     return has_no_late_part(expression)

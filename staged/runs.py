@@ -4,8 +4,10 @@ The bodies are written as lists of instructions first, which a stack of numbers 
 a run may go far deeper into calls than Python's own calls may.
 """
 
-from staged.programs import check_program, early_test_holds, find_function, has_no_late_part, moved
+from staged.programs import check_program, early_test_holds, find_function, has_no_late_part, is_early_step, moved
 from staged.values import OPERATIONS, check_early, check_fuel, check_lates, operate
+
+NO_MOVE = ("move", 0)
 
 
 class Play:
@@ -24,44 +26,50 @@ class Play:
         self.ended = False
 
 
-def _write_if(expression, code):
+def _write_if(expression, code, is_early_part):
     """Append the instructions of an if."""
     _, test, one, other = expression
     if test[0] == "less":
-        _write(test[1], code)
-        _write(test[2], code)
+        _write(test[1], code, is_early_part)
+        _write(test[2], code, is_early_part)
     at_test = len(code)
     code.append(None)
-    _write(one, code)
+    _write(one, code, is_early_part)
     at_jump = len(code)
     code.append(None)
     # Only now is it known where the second branch begins and ends.
     code[at_test] = ("unless", test, len(code))
-    _write(other, code)
+    _write(other, code, is_early_part)
     code[at_jump] = ("jump", len(code))
 
 
-def _write(expression, code):
+def _write(expression, code, is_early_part):
     """Append the instructions that put the value of an expression on the stack."""
     word = expression[0]
     if word == "if":
-        _write_if(expression, code)
+        _write_if(expression, code, is_early_part)
     elif word == "call":
-        for late in expression[3]:
-            _write(late, code)
-        code.append(("call", expression[1], expression[2], len(expression[3])))
+        handed = expression[-1]
+        for late in handed:
+            _write(late, code, is_early_part)
+        # The call of a plain expression has no move.
+        move = expression[2] if len(expression) == 4 else NO_MOVE
+        code.append(("call", expression[1], move, len(handed)))
     elif word in OPERATIONS:
-        _write(expression[1], code)
-        _write(expression[2], code)
-        code.append((word, has_no_late_part(expression)))
+        _write(expression[1], code, is_early_part)
+        _write(expression[2], code, is_early_part)
+        code.append((word, is_early_part(expression)))
     else:
         code.append(expression)
 
 
-def _written(body):
-    """Return the instructions of a function's body."""
+def written(body, is_early_part):
+    """Return the instructions of a function's body, which may be a plain one.
+
+    is_early_part(expression) tells whether a plus, minus or times is an early step.
+    """
     code = []
-    _write(body, code)
+    _write(body, code, is_early_part)
     code.append(("back",))
     return code
 
@@ -115,7 +123,7 @@ def _do_call(play, instruction):
     """Begin the body of a function with the late numbers on the stack."""
     _, name, move, many = instruction
     play.late_steps += 1
-    if move[0] == "move" and move[1] != 0:
+    if is_early_step(move):
         play.early_steps += 1
     play.frames.append((play.code, play.at, play.early, play.lates))
     stack = play.stack
@@ -149,7 +157,7 @@ ACTIONS = {
 }
 
 
-def _finish(play, fuel):
+def finish(play, fuel):
     """Go on to the end of a run; tell whether the fuel sufficed."""
     while not play.ended and play.late_steps <= fuel:
         instruction = play.code[play.at]
@@ -166,8 +174,8 @@ def run(program, name, early, lates, fuel):
     check_early(early)
     check_lates(lates, many)
     check_fuel(fuel)
-    codes = {title: _written(body) for title, _, body in program}
+    codes = {title: written(body, has_no_late_part) for title, _, body in program}
     play = Play(codes, name, early, lates)
-    if not _finish(play, fuel):
+    if not finish(play, fuel):
         return None
     return play.stack[0], play.early_steps, play.late_steps

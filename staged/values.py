@@ -4,6 +4,7 @@ from staged.errors import BadFuel, BadLates, BadNumber
 
 MOST_NUMBER = 1000000
 MOST_EARLY = 1000
+MOST_POINT = 10000000
 MOST_FUEL = 100000
 MOST_VALUE = 10 ** 30
 OPERATIONS = ("plus", "minus", "times")
@@ -15,10 +16,15 @@ def is_integer(value, low, high):
     return isinstance(value, int) and not isinstance(value, bool) and low <= value <= high
 
 
+def check_number(value, most):
+    """Raise BadNumber for a value that is no integer from 0 to most."""
+    if not is_integer(value, 0, most):
+        raise BadNumber(f"not an integer from 0 to {most}")
+
+
 def check_early(value):
     """Raise BadNumber for a value that is no early number to begin with."""
-    if not is_integer(value, 0, MOST_EARLY):
-        raise BadNumber("not an integer from 0 to 1000")
+    check_number(value, MOST_EARLY)
 
 
 def check_lates(value, many):

@@ -1,4 +1,6 @@
-"""A second way to tell what a program is, to hold the package against."""
+"""A second way to tell what a program or a plain program is, to hold the package against."""
+
+import re
 
 BARRED = ("if", "then", "else", "mod", "a", "b", "c", "d", "e")
 
@@ -86,6 +88,62 @@ def checked(value):
     if len(checker.arities) < len(value):
         return False
     try:
+        for function in value:
+            checker.expression(function[2], function[1])
+    except Wrong:
+        return False
+    return True
+
+
+def has_plain_name(value):
+    """Tell whether a value is a plain name."""
+    if type(value) is not str:
+        return False
+    written = re.fullmatch("([a-z]+)_(0|[1-9][0-9]{0,7})", value, re.ASCII)
+    return written is not None and not value.endswith("\n") and plain_name(written[1]) and int(written[2]) <= 10000000
+
+
+class PlainChecker(Checker):
+    """A second way to tell what a plain program is."""
+
+    def enter(self, depth):
+        self.many += 1
+        self.need(depth <= 30)
+
+    def expression(self, value, lates, depth=1):
+        self.enter(depth)
+        if tagged(value, "number", 1):
+            return self.need(is_int(value[1], 0, 10 ** 30))
+        if tagged(value, "late", 1):
+            return self.need(is_int(value[1], 0, 3) and value[1] < lates)
+        if tagged(value, "if", 3):
+            self.enter(depth + 1)
+            self.need(tagged(value[1], "less", 2))
+            for part, below in zip(value[1][1:] + value[2:], (2, 2, 1, 1)):
+                self.expression(part, lates, depth + below)
+            return None
+        parts = value[1:] if any(tagged(value, tag, 2) for tag in ("plus", "minus", "times")) else None
+        if parts is None:
+            self.need(tagged(value, "call", 2) and has_plain_name(value[1]) and value[1] in self.arities)
+            parts = value[2]
+            self.need(type(parts) is tuple and len(parts) == self.arities[value[1]])
+        for part in parts:
+            self.expression(part, lates, depth + 1)
+        return None
+
+
+def checked_plain(value):
+    """Tell whether a value is a plain program."""
+    if type(value) is not tuple or not 1 <= len(value) <= 300:
+        return False
+    for function in value:
+        if type(function) is not tuple or len(function) != 3:
+            return False
+        if not has_plain_name(function[0]) or not is_int(function[1], 0, 4):
+            return False
+    checker = PlainChecker({function[0]: function[1] for function in value})
+    try:
+        checker.need(len(checker.arities) == len(value))
         for function in value:
             checker.expression(function[2], function[1])
     except Wrong:

@@ -1,4 +1,4 @@
-"""Programs and values that several tests use, and a maker of random programs."""
+"""Programs and values that several tests use, and makers of random programs."""
 
 POWER = (
     ("pow", 1, ("if", ("below", 1), ("number", 1),
@@ -44,6 +44,17 @@ def of_nodes(many):
         parts = [("plus", *pair) if len(pair) == 2 else pair[0]
                  for pair in (parts[at:at + 2] for at in range(0, len(parts), 2))]
     return parts[0]
+
+
+def replacements(value, others):
+    """Yield the value with each part of it, at any depth, replaced by each of the others, left out, or doubled."""
+    yield from others
+    if type(value) is tuple:
+        for at, part in enumerate(value):
+            yield value[:at] + value[at + 1:]
+            yield value[:at] + (part, part) + value[at + 1:]
+            for other in replacements(part, others):
+                yield value[:at] + (other,) + value[at + 1:]
 
 
 # A value of each kind, and such values within one another.
@@ -100,3 +111,53 @@ def random_program(rng, depth=5):
     names = ("f", "go", "pow")[:rng.randint(1, 3)]
     arities = {name: rng.randint(0, 3) for name in names}
     return tuple((name, arities[name], random_expression(rng, depth, arities[name], arities)) for name in names)
+
+
+def random_steps(rng, depth, names):
+    """Return a random expression of tests and calls, at most this deep, and without late numbers."""
+    if depth < 2:
+        return ("number", rng.randint(0, 3))
+    kind = rng.choice(("below", "rest", "rest", "less", "plus", "call", "call", "call"))
+    if kind == "call":
+        move = ("give", rng.randint(0, 9)) if rng.random() < 0.1 else ("move", rng.choice((-3, -2, -1, -1, 0, 1, 2, 5)))
+        return ("call", rng.choice(names), move, ())
+    one, other = (random_steps(rng, depth - 1, names) for _ in range(2))
+    if kind == "plus":
+        return ("plus", one, other)
+    divisor = rng.randint(2, 6)
+    test = {"below": ("below", rng.randint(0, 9)), "rest": ("rest", divisor, rng.randrange(divisor)),
+            "less": ("less", ("call", rng.choice(names), ("move", -1), ()), ("number", 3))}[kind]
+    return ("if", test, one, other)
+
+
+def random_walker(rng):
+    """Return a random program whose staging meets many points, be they finitely many or not."""
+    names = ("f", "go", "pow")[:rng.randint(1, 3)]
+    return tuple((name, 0, random_steps(rng, rng.randint(3, 5), names)) for name in names)
+
+
+def random_plain_expression(rng, depth, lates, arities):
+    """Return a random plain expression, at most this deep."""
+    leaves = [("number", rng.choice((0, 1, 2, 3, 7, 1000001, 10 ** 30 - 1, 10 ** 30)))]
+    if lates:
+        leaves += [("late", rng.randrange(lates))] * 2
+    if depth < 3 or rng.random() < 0.2:
+        return rng.choice(leaves)
+
+    def inner():
+        return random_plain_expression(rng, depth - 1, lates, arities)
+
+    kind = rng.choice(("plus", "minus", "times", "if", "if", "call", "call"))
+    if kind == "if":
+        return ("if", ("less", inner(), inner()), inner(), inner())
+    if kind == "call":
+        name = rng.choice(sorted(arities))
+        return ("call", name, tuple(inner() for _ in range(arities[name])))
+    return (kind, inner(), inner())
+
+
+def random_plain(rng, depth=5):
+    """Return a random plain program of one to four functions."""
+    names = ("f_0", "f_12", "go_7", "pow_10000000")[:rng.randint(1, 4)]
+    arities = {name: rng.randint(0, 4) for name in names}
+    return tuple((name, arities[name], random_plain_expression(rng, depth, arities[name], arities)) for name in names)

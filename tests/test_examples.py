@@ -15,6 +15,31 @@ EXAMPLES = (
 >>> [run(power, 'pow', 3, (2,), 100), run(power, 'pow', 3, (2,), 5)]
 [(8, 7, 6), None]
 """),
+    ("walks", """
+>>> from staged.walks import common, ground, height, next_points, rise
+>>> power = (("pow", 1, ("if", ("below", 1), ("number", 1), ("times", ("late", 0), ("call", "pow", ("move", -1), (("late", 0),))))),)
+>>> [next_points(power, ('pow', 3)), next_points(power, ('pow', 0)), ground(power), common(power), rise(power), height(power, 9)]
+[(('pow', 2),), (), 1, 1, 0, 9]
+"""),
+    ("halting", """
+>>> from staged.halting import climb, ending_numbers, ends, points, shows_climb, shows_closed
+>>> power = (("pow", 1, ("if", ("below", 1), ("number", 1), ("times", ("late", 0), ("call", "pow", ("move", -1), (("late", 0),))))),)
+>>> up = (('go', 0, ('if', ('below', 5), ('number', 0), ('call', 'go', ('move', 1), ()))),)
+>>> [ends(power, 'pow', 3), points(power, 'pow', 2), ending_numbers(up, 'go', 7), climb(up, 'go', 4), points(up, 'go', 5), shows_climb(up, 'go', 6, ((('go', 6), ('go', 7)), 0, 1)), shows_closed(power, 'pow', 1, (('pow', 0), ('pow', 1)))]
+[True, (('pow', 0), ('pow', 1), ('pow', 2)), (0, 1, 2, 3, 4), None, None, True, True]
+"""),
+    ("plains", """
+>>> from staged.plains import is_plain, plain_run
+>>> twice = (('f_0', 1, ('plus', ('late', 0), ('late', 0))),)
+>>> [is_plain(twice), plain_run(twice, (21,), 9), plain_run(twice, (21,), 0)]
+[True, (42, 1), None]
+"""),
+    ("staging", """
+>>> from staged.staging import body_of, pays_from, staged, staging_steps
+>>> power = (("pow", 1, ("if", ("below", 1), ("number", 1), ("times", ("late", 0), ("call", "pow", ("move", -1), (("late", 0),))))),)
+>>> [staged(power, 'pow', 1), body_of(power, ('pow', 0)), staging_steps(power, 'pow', 3), pays_from(power, 'pow', 3, (2,), 100)]
+[(('pow_1', 1, ('times', ('late', 0), ('call', 'pow_0', (('late', 0),)))), ('pow_0', 1, ('number', 1))), ('number', 1), 7, 1]
+"""),
 )
 
 

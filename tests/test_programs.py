@@ -7,7 +7,7 @@ from staged import programs
 from staged.errors import BadExpression, BadName, BadProgram
 from staged.programs import calls, functions, is_early, is_program, node_count
 from tests.checker import BARRED, Checker, checked
-from tests.samples import FOUR, POWER, VALUES, chain, doubled, nested, of_nodes, random_program
+from tests.samples import FOUR, POWER, VALUES, chain, doubled, nested, of_nodes, random_program, replacements
 
 CALLED = ("g", 0, ("number", 0))
 
@@ -28,17 +28,6 @@ def of_move(move):
 
 def named(name):
     return ((name, 0, ("call", name, ("give", 0), ())),)
-
-
-def replacements(value, others):
-    """Yield the value with each part of it, at any depth, replaced by each of the others, left out, or doubled."""
-    yield from others
-    if type(value) is tuple:
-        for at, part in enumerate(value):
-            yield value[:at] + value[at + 1:]
-            yield value[:at] + (part, part) + value[at + 1:]
-            for other in replacements(part, others):
-                yield value[:at] + (other,) + value[at + 1:]
 
 
 class IsProgramTest(unittest.TestCase):
