@@ -91,10 +91,10 @@ def _do_late(play, instruction):
 
 def _do_operation(play, instruction):
     """Put the value of the two upper numbers in their place."""
-    word, is_early_step = instruction
+    word, counts_early = instruction
     other = play.stack.pop()
     play.stack[-1] = operate(word, play.stack[-1], other)
-    if is_early_step:
+    if counts_early:
         play.early_steps += 1
     else:
         play.late_steps += 1
