@@ -1,7 +1,7 @@
 """Whether staging ends, with what shows it: the points met, or a walk that can climb for ever."""
 
 from staged.programs import check_program, find_function
-from staged.values import check_early, check_number, is_integer
+from staged.values import check_early, check_number, is_integer, reach
 from staged.walks import called_points, common, ground, height, is_point
 
 MOST_WALK = 30000
@@ -15,10 +15,10 @@ def check_start(program, name, early):
     check_early(early)
 
 
-def _meet(program, starts, most):
+def meet(program, starts, least, most):
     """Return a dict from each point met to the points that it calls, in the order of a search in breadth.
 
-    A point with an early number above the most is met, but not gone on from: it has no points there.
+    A point with an early number below the least or above the most is met, but not gone on from: it has no points there.
     """
     met = {}
     waiting = starts
@@ -26,7 +26,7 @@ def _meet(program, starts, most):
         ahead = []
         for point in waiting:
             if point not in met:
-                met[point] = called_points(program, point) if point[1] <= most else ()
+                met[point] = called_points(program, point) if least <= point[1] <= most else ()
                 ahead.extend(met[point])
         waiting = ahead
     return met
@@ -68,15 +68,7 @@ def _find_climb(walk, low, step):
 
 def _leading_above(met, most):
     """Return a dict of the points met from which a point with an early number above the most can be come to."""
-    callers = _find_callers(met)
-    found = {}
-    waiting = [point for point in met if point[1] > most]
-    while waiting:
-        point = waiting.pop()
-        if point not in found:
-            found[point] = True
-            waiting.extend(callers[point])
-    return found
+    return reach([point for point in met if point[1] > most], _find_callers(met))
 
 
 def ends(program, name, early):
@@ -88,7 +80,7 @@ def points(program, name, early):
     """Return the ascending tuple of the points that staging meets, None if it never ends."""
     check_start(program, name, early)
     most = height(program, early)
-    met = _meet(program, [(name, early)], most)
+    met = meet(program, [(name, early)], 0, most)
     if any(number > most for _, number in met):
         return None
     return tuple(sorted(met))
@@ -98,7 +90,7 @@ def climb(program, name, early):
     """Return a walk of points and two indexes of it that show that staging never ends, None if it ends."""
     check_start(program, name, early)
     most = height(program, early)
-    met = _meet(program, [(name, early)], most)
+    met = meet(program, [(name, early)], 0, most)
     above = [point for point in met if point[1] > most]
     if not above:
         return None
@@ -163,6 +155,6 @@ def ending_numbers(program, name, most):
     check_number(most, MOST_ENDING)
     # The height of the greatest early number does for the lesser ones, too: what goes on for ever gets above any bound.
     bound = height(program, most)
-    met = _meet(program, [(name, early) for early in range(most + 1)], bound)
+    met = meet(program, [(name, early) for early in range(most + 1)], 0, bound)
     endless = _leading_above(met, bound)
     return tuple([early for early in range(most + 1) if (name, early) not in endless])

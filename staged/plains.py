@@ -1,7 +1,7 @@
 """Plain programs: programs of late numbers alone, and their runs."""
 
 from staged.errors import BadPlain
-from staged.programs import count_nodes, find_arities, is_callable, is_name, is_shared_node
+from staged.programs import count_nodes, find_arities, is_callable, is_name, is_shared_node, nodes
 from staged.runs import Play, finish, written
 from staged.values import MOST_POINT, MOST_VALUE, check_fuel, check_lates, is_integer
 
@@ -55,6 +55,11 @@ def check_plain(value):
     """Raise BadPlain for a value that is no plain program."""
     if not is_plain(value):
         raise BadPlain("not a plain program")
+
+
+def called_names(body):
+    """Return the list of the names that the calls in a plain body have, in the order of the text."""
+    return [node[1] for node in nodes(body) if node[0] == "call"]
 
 
 def _is_early_part(_):

@@ -29,6 +29,15 @@ def inner_nodes(node):
     return ()
 
 
+def with_inner(node, parts):
+    """Return an expression or a test with these parts in the places of those that inner_nodes returns."""
+    if node[0] == "call":
+        return (*node[:-1], tuple(parts))
+    if node[0] in WORDS_OF_PARTS:
+        return (node[0], *parts)
+    return node
+
+
 def nodes(expression):
     """Return the list of an expression and all tests and expressions in it, in the order of the text."""
     found = []

@@ -56,14 +56,14 @@ def _stage(expression, early):
     return expression
 
 
-def _staged_function(program, point):
+def staged_function(program, point):
     """Return the function of a staged program for a point."""
     name, early = point
     _, lates, body = find_function(program, name)
     return (plain_name(point), lates, _stage(body, early))
 
 
-def _points_staged(program, name, early):
+def points_staged(program, name, early):
     """Return the points that staging meets, None if it never ends; raise TooMany if they are too many to stage."""
     met = points(program, name, early)
     if met is not None and len(met) > MOST_MET:
@@ -73,19 +73,19 @@ def _points_staged(program, name, early):
 
 def staged(program, name, early):
     """Return the plain program of a staging, None if it never ends."""
-    met = _points_staged(program, name, early)
+    met = points_staged(program, name, early)
     if met is None:
         return None
     start = (name, early)
     others = [point for point in met if point != start]
-    return tuple([_staged_function(program, point) for point in [start] + others])
+    return tuple([staged_function(program, point) for point in [start] + others])
 
 
 def body_of(program, point):
     """Return the body of a point's function in a staged program."""
     check_program(program)
     check_point(program, point)
-    return _staged_function(program, point)[2]
+    return staged_function(program, point)[2]
 
 
 def _is_step(node):
@@ -99,7 +99,7 @@ def _is_step(node):
 
 def staging_steps(program, name, early):
     """Return the number of early steps made in staging, all points together, None if it never ends."""
-    met = _points_staged(program, name, early)
+    met = points_staged(program, name, early)
     if met is None:
         return None
     return sum([1 for point in met for node in nodes_left(program, point) if _is_step(node)])

@@ -41,6 +41,21 @@ def check_fuel(value):
         raise BadFuel("not an integer from 0 to 100000")
 
 
+def reach(starts, onward):
+    """Return a dict of True for all that can be come to from the starts, these too.
+
+    The dict onward holds the list of what is right behind each one, and nothing for one that leads nowhere.
+    """
+    found = {}
+    waiting = list(starts)
+    while waiting:
+        one = waiting.pop()
+        if one not in found:
+            found[one] = True
+            waiting.extend(onward.get(one, ()))
+    return found
+
+
 def operate(word, one, other):
     """Return the value of a plus, a minus or a times of two values."""
     if word == "plus":

@@ -40,6 +40,29 @@ EXAMPLES = (
 >>> [staged(power, 'pow', 1), body_of(power, ('pow', 0)), staging_steps(power, 'pow', 3), pays_from(power, 'pow', 3, (2,), 100)]
 [(('pow_1', 1, ('times', ('late', 0), ('call', 'pow_0', (('late', 0),)))), ('pow_0', 1, ('number', 1))), ('number', 1), 7, 1]
 """),
+    ("folding", """
+>>> from staged.folding import alike, least, lots, plain_alike, plain_least, unlike_path
+>>> two = (('f', 1, ('if', ('rest', 2, 0), ('call', 'f', ('move', -1), (('late', 0),)), ('late', 0))),)
+>>> [lots(two, 'f', 2), alike(two, ('f', 1), ('f', 3)), unlike_path(two, ('f', 1), ('f', 2)), least(two, 'f', 1), plain_alike((('f_0', 0, ('number', 1)),), (('g_2', 0, ('number', 1)),)), plain_least((('f_0', 0, ('call', 'f_1', ())), ('f_1', 0, ('call', 'f_0', ()))))]
+[((('f', 1),), (('f', 2),)), True, (), (('f_1', 1, ('late', 0)),), True, (('f_0', 0, ('call', 'f_0', ())),)]
+"""),
+    ("rounds", """
+>>> from staged.rounds import lifted, swapped
+>>> less = (('f', 1, ('if', ('below', 3), ('late', 0), ('call', 'f', ('move', -1), (('plus', ('late', 0), ('number', 2)),)))),)
+>>> [swapped(less, 0), lifted((('g_1', 1, ('if', ('less', ('number', 4), ('late', 0)), ('number', 0), ('late', 0))),), 0)]
+[(('f', 1, ('if', ('less', ('late', 0), ('number', 3)), ('early',), ('call', 'f', ('move', 2), (('minus', ('late', 0), ('number', 1)),)))),), (('pa', 0, ('if', ('below', 5), ('early',), ('number', 0))),)]
+"""),
+    ("codes", """
+>>> from staged.codes import compiled, plain_of
+>>> [compiled((('f_0', 1, ('if', ('less', ('late', 0), ('number', 2)), ('number', 1), ('call', 'f_0', (('late', 0),)))),)), plain_of((((0, 1),), (('arg', 0), ('back',))))]
+[(((0, 1),), (('arg', 0), ('push', 2), ('less',), ('zero', 6), ('push', 1), ('back',), ('arg', 0), ('tail', 0))), (('f_0', 1, ('late', 0)),)]
+"""),
+    ("machines", """
+>>> from staged.machines import deepest, heights, machine_run
+>>> code = (((0, 1),), (('arg', 0), ('push', 2), ('times',), ('back',)))
+>>> [machine_run(code, (21,), 9), machine_run(code, (21,), 3), heights(code), deepest(code)]
+[(42, 4, 1, 2), None, (0, 1, 2, 1), 2]
+"""),
 )
 
 

@@ -51,7 +51,8 @@ class NamesTest(unittest.TestCase):
                 ("def f(one):\n    return [nodes for nodes in one]\n", ["nodes"]),
                 ("def f(one):\n    for at, nodes in one:\n        return at\n", ["nodes"]),
                 ("def f(one):\n    def nodes():\n        return one\n    return nodes\n", ["nodes"]),
-                ("def f(one):\n    match one:\n        case (nodes, *len):\n            return nodes\n", ["len", "nodes"]),
+                ("def f(one):\n    match one:\n        case (nodes, *len):\n            return nodes\n",
+                 ["len", "nodes"]),
                 ("def f(Box):\n    next = Box\n    return next\n", ["Box", "next"]),
                 ("def f(one):\n    return [len(nodes(one)), Box()]\n", [])):
             with self.subTest(body):
