@@ -63,6 +63,29 @@ EXAMPLES = (
 >>> [machine_run(code, (21,), 9), machine_run(code, (21,), 3), heights(code), deepest(code)]
 [(42, 4, 1, 2), None, (0, 1, 2, 1), 2]
 """),
+    ("graphs", """
+>>> from staged.graphs import flat_functions, longest_chain, loops
+>>> plain = (('f_0', 1, ('call', 'g_0', (('late', 0),))), ('g_0', 1, ('plus', ('late', 0), ('call', 'h_0', ()))), ('h_0', 0, ('number', 1)))
+>>> [flat_functions(plain), loops(plain), longest_chain(plain)]
+[('h_0',), (), 3]
+"""),
+    ("needs", """
+>>> from staged.needs import needless, settled, slimmed
+>>> plain = (('f_0', 1, ('call', 'g_0', (('late', 0), ('number', 5)))), ('g_0', 2, ('late', 1)))
+>>> [needless(plain), slimmed(plain), settled(plain)]
+[(('f_0', 0), ('g_0', 0)), (('f_0', 1, ('call', 'g_0', (('number', 5),))), ('g_0', 1, ('late', 0))), (('g_0', 1, 5),)]
+"""),
+    ("texts", """
+>>> from staged.texts import write_plain, write_program
+>>> power = (("pow", 1, ("if", ("below", 1), ("number", 1), ("times", ("late", 0), ("call", "pow", ("move", -1), (("late", 0),))))),)
+>>> [write_program(power), write_plain((('pow_1', 1, ('times', ('late', 0), ('call', 'pow_0', (('late', 0),)))), ('pow_0', 1, ('number', 1))))]
+['pow(e | a) = (if e < 1 then 1 else (a * pow(e - 1 | a)))', 'pow_1(a) = (a * pow_0(a)); pow_0(a) = 1']
+"""),
+    ("reading", """
+>>> from staged.reading import read_plain, read_program
+>>> [read_program('one(e)=(if e mod 2=1 then 1 else two(7)); two(e) = e'), read_plain('f_0(a,b) = (a-b)')]
+[(('one', 0, ('if', ('rest', 2, 1), ('number', 1), ('call', 'two', ('give', 7), ()))), ('two', 0, ('early',))), (('f_0', 2, ('minus', ('late', 0), ('late', 1))),)]
+"""),
 )
 
 
