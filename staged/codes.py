@@ -223,7 +223,8 @@ def plain_of(code):
     """Return the plain program with functions f_0, f_1, .. whose code is this one, None if there is none."""
     check_code(code)
     plain = []
-    for index, ((address, lates), end) in enumerate(zip(code[0], entry_ends(code))):
+    for index, (entry, end) in enumerate(zip(code[0], entry_ends(code))):
+        address, lates = entry
         body = _read(code, address, end, 1)
         if body is None:
             return None

@@ -1,21 +1,12 @@
 """Which functions of a plain program come to which others: flat functions, loops, and the longest chain of calls."""
 
 from staged.plains import called_names, check_plain
-from staged.values import reach
+from staged.values import reach, turn_round
 
 
 def _find_called(plain):
     """Return a dict from the name of each function to the list of the names that it calls, each once."""
     return {name: sorted(set(called_names(body))) for name, _, body in plain}
-
-
-def _find_callers(called):
-    """Return a dict from the name of each function to the list of the names of those that call it."""
-    callers = {name: [] for name in called}
-    for name, others in called.items():
-        for other in others:
-            callers[other].append(name)
-    return callers
 
 
 def _count_last_calls(body):
@@ -35,7 +26,7 @@ def flat_functions(plain):
     """Return the names of the functions that come to no call but such in the last place."""
     check_plain(plain)
     others = [name for name, _, body in plain if len(called_names(body)) > _count_last_calls(body)]
-    uneven = reach(others, _find_callers(_find_called(plain)))
+    uneven = reach(others, turn_round(_find_called(plain)))
     return tuple([name for name, _, _ in plain if name not in uneven])
 
 

@@ -1,7 +1,7 @@
 """Whether staging ends, with what shows it: the points met, or a walk that can climb for ever."""
 
 from staged.programs import check_program, find_function
-from staged.values import check_early, check_number, is_integer, reach
+from staged.values import check_early, check_number, is_integer, reach, turn_round
 from staged.walks import called_points, common, ground, height, is_point
 
 MOST_WALK = 30000
@@ -32,18 +32,9 @@ def meet(program, starts, least, most):
     return met
 
 
-def _find_callers(met):
-    """Return a dict from each point met to the list of the points met that call it, in the order of the search."""
-    callers = {point: [] for point in met}
-    for point, called in met.items():
-        for other in called:
-            callers[other].append(point)
-    return callers
-
-
 def _walk_between(met, start, end):
     """Return a shortest walk from where a search began to a point that it met."""
-    callers = _find_callers(met)
+    callers = turn_round(met)
     walk = [end]
     while walk[-1] != start:
         # The first caller was met ahead of the point itself, so going back comes to the start.
@@ -68,7 +59,7 @@ def _find_climb(walk, low, step):
 
 def _leading_above(met, most):
     """Return a dict of the points met from which a point with an early number above the most can be come to."""
-    return reach([point for point in met if point[1] > most], _find_callers(met))
+    return reach([point for point in met if point[1] > most], turn_round(met))
 
 
 def ends(program, name, early):

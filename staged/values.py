@@ -41,6 +41,15 @@ def check_fuel(value):
         raise BadFuel("not an integer from 0 to 100000")
 
 
+def turn_round(onward):
+    """Return a dict from each one to the list of those that it is right behind, in the order of the dict onward."""
+    back = {one: [] for one in onward}
+    for one, others in onward.items():
+        for other in others:
+            back[other].append(one)
+    return back
+
+
 def reach(starts, onward):
     """Return a dict of True for all that can be come to from the starts, these too.
 

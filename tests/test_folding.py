@@ -68,6 +68,10 @@ class AlikeTest(unittest.TestCase):
                 self.assertEqual(unlike(other, body, 2), ())
                 self.assertIs(alike((("f", 2, body), ("g", 2, other)) + LEAF, ("f", 0), ("g", 0)), False)
 
+    def test_bodies_that_differ_in_how_many_late_expressions_calls_have(self):
+        self.assertEqual(unlike(to("duo", 0, to("mono", 0, LATE), ONE), to("mono", 0, to("duo", 0, LATE, ONE))), ())
+        self.assertEqual(unlike(to("duo", 0, to("leaf", 0), ONE), to("mono", 0, to("mono", 0, ONE))), ())
+
     def test_bodies_that_are_the_same_when_staged(self):
         for body, other in ((EARLY, NOTHING), (("plus", EARLY, ONE), ONE), (("if", ("below", 1), LATE, ONE), LATE),
                             (to("mono", 0, EARLY), by("mono", 0, ("minus", ONE, ("number", 5)))),

@@ -272,12 +272,16 @@ class ReadProgramTest(ReadingTest):
         self.refuses_bodies("(1 + " * 29 + "(if e < 1 then a else b)" + ")" * 29)
 
     def test_texts_nested_much_deeper(self):
+        openings = ("(", "(1 + ", "((1 + 1) * ", "f(", "f(e | ", "f(e + 1 | 1, ", "(if ", "(if 1 < ", "(if e < ",
+                    "(if e < 1 then ",
+                    "(if e < 1 then 1 else ", "(if e mod 2 = 1 then (1 + ", "(1 + (if e < 1 then ")
         for many in (100, 1000, 100000):
-            self.refuses(read_program, "(" * many, ")" * many, "f(e) = " + "(" * many, "f(e) = " + "(1 + " * many,
-                         "f(e) = " + "f(" * many,
-                         "f(e) = " + "(if " * many, "f(e) = " + "(" * many + "1" + " + 1)" * many,
+            self.refuses(read_program,
+                         ")" * many, "(" * many, *[f"f(e | a) = {opening * many}" for opening in openings])
+            self.refuses(read_program, "f(e) = " + "(" * many + "1" + " + 1)" * many,
                          "f(e | a) = " + "f(e | " * many + "a" + ")" * many,
-                         "f(e) = " + "(if 1 < " * many, "f(e) = " + "(1 + (if e < 1 then " * many)
+                         "f(e) = " + "(if e < 1 then " * many + "1" + " else 1)" * many,
+                         "f(e) = " + "(if e < 1 then 1 else " * many + "1" + ")" * many)
 
     def test_long_texts(self):
         many = 100000
