@@ -65,9 +65,10 @@ def _do_zero(machine, instruction):
 def _take_lates(machine, instruction):
     """Take the late numbers of a function from the stack and begin it."""
     address, many = machine.entries[instruction[1]]
-    below = len(machine.stack) - many
-    machine.lates = tuple(machine.stack[below:])
-    del machine.stack[below:]
+    stack = machine.stack
+    below = len(stack) - many
+    machine.lates = tuple(stack[below:])
+    del stack[below:]
     machine.at = address
 
 
