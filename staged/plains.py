@@ -3,7 +3,7 @@
 from staged.errors import BadPlain
 from staged.programs import count_nodes, find_arities, is_callable, is_name, is_shared_node, nodes
 from staged.runs import Play, finish, written
-from staged.values import MOST_POINT, MOST_VALUE, check_fuel, check_lates, is_integer
+from staged.values import MOST_POINT, MOST_VALUE, check_fuel, check_lates
 
 MOST_PLAIN_FUNCTIONS = 300
 
