@@ -105,6 +105,8 @@ ACTIONS = {
 
 def _step(machine):
     """Make the next instruction, or raise Stuck."""
+    if machine.at >= len(machine.instructions):
+        raise Stuck(machine.at)
     instruction = machine.instructions[machine.at]
     if len(machine.stack) < numbers_taken(instruction, machine.entries):
         raise Stuck(machine.at)
@@ -122,8 +124,7 @@ def machine_run(code, lates, fuel):
     check_fuel(fuel)
     machine = Machine(code, lates)
     while not machine.ended:
-        if machine.at >= len(machine.instructions):
-            raise Stuck(machine.at)
+        # Being stuck counts as an instruction, wherever it comes: without the fuel for it there is no answer.
         if machine.made == fuel:
             return None
         _step(machine)

@@ -150,10 +150,10 @@ def play(code, lates, fuel):
         taken, stack = stack[len(stack) - many:], stack[:len(stack) - many]
         return taken
 
-    while at < len(instructions):
-        if made == fuel:
-            return None
+    while made < fuel:
         made += 1
+        if at >= len(instructions):
+            return ("stuck", at)
         word, *parts = instructions[at]
         try:
             if word == "push":
@@ -186,7 +186,7 @@ def play(code, lates, fuel):
             return ("stuck", at)
         at = following
         most_frames, most_stack = max(most_frames, len(frames)), max(most_stack, len(stack))
-    return ("stuck", at)
+    return None
 
 
 def measure(code):

@@ -172,11 +172,26 @@ class MachineRunTest(unittest.TestCase):
                 else:
                     self.assertIsNone(machine_run(code, (), fuel))
 
-    def test_beyond_the_instructions_there_is_none_to_count(self):
-        self.assertIsNone(machine_run(single(*push(1, 2)), (), 0))
-        self.assertIsNone(machine_run(single(*push(1, 2)), (), 1))
-        for fuel in (2, 3, 100000):
-            self.stuck(2, single(*push(1, 2)), (), fuel)
+    def test_an_address_beyond_the_instructions_counts_as_an_instruction(self):
+        turned = (((0, 1), (10, 2)), (
+            ("push", 2), ("arg", 0), ("call", 1), ("arg", 0), ("push", 0), ("times",), ("plus",), ("arg", 0),
+            ("times",), ("back",), ("arg", 1), ("zero", 0)))
+        returned = (((0, 0), (2, 0)), (("jump", 4), ("back",), ("push", 1), ("back",), ("call", 1)))
+        ends = (("arg", 0), ("push", 1), ("plus",)), (("push", 1), ("jump", 2), ("arg", 0)), (("push", 1), ("zero", 0))
+        # Each code with the number of instructions made before the address behind the last one is come to.
+        cases = [(single(("push", 1)), (), 1), (single(("arg", 0), lates=1), (5,), 1), (single(*push(1, 2)), (), 2),
+                 (turned, (1,), 5), (returned, (), 4)]
+        cases += [(single(*instructions, lates=1), (7,), len(instructions)) for instructions in ends]
+        for code, lates, made in cases:
+            with self.subTest(code=code):
+                for fuel in range(made + 1):
+                    self.assertIsNone(machine_run(code, lates, fuel))
+                for fuel in (made + 1, made + 2, 100000):
+                    self.stuck(len(code[1]), code, lates, fuel)
+        # Of as many instructions as may be, all fuel is used up by those made.
+        many = 100000
+        self.assertIsNone(machine_run(single(*[("push", 1)] * many), (), many))
+        self.stuck(many - 1, single(*[("push", 1)] * (many - 1)), (), many)
 
     def test_functions_may_take_numbers_that_are_not_their_own(self):
         code = (((0, 0), (3, 0)), (("push", 5), ("call", 1), ("back",), ("push", 3), ("minus",), ("back",)))
